@@ -1,0 +1,1 @@
+"""Leastfile: shortest files, and what any rule of packing costs."""

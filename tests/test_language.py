@@ -1,0 +1,123 @@
+"""The language of the package's files, and that the interface is defined where it must be."""
+
+import ast
+import os
+import unittest
+
+FOLDER = os.path.join(os.path.dirname(os.path.dirname(os.path.abspath(__file__))), "leastfile")
+
+INTERFACE = {
+    "errors.py": ["PackError", "BadFormat", "NoCommand", "BadWay", "NoBits", "BadBits", "TooFew", "Left", "NoUndo",
+                  "BadText", "BadNumber", "BadPlaces", "BadRule", "BadView", "TooMany", "OtherLetters", "BadTexts",
+                  "BadLine", "NoLine", "NoName", "BadSight", "NoMove", "BadFlag", "BadCopies"],
+    "formats.py": ["Format", "Format.price", "Format.commands", "Format.__eq__", "coded", "room"],
+    "files.py": ["spread", "written", "read", "text_of"],
+    "readers.py": ["Reader", "Reader.push", "Reader.text", "Reader.way", "Reader.is_whole", "Reader.may",
+                   "Reader.lack", "Reader.undo"],
+}
+
+IMPORTS = {"math": {"gcd"}}
+BUILTINS = {
+    "len", "range", "enumerate", "zip", "min", "max", "sum", "abs", "sorted", "reversed", "int", "str", "bool", "list",
+    "tuple", "dict", "set", "isinstance", "any", "all", "divmod", "property", "ValueError",
+}
+METHODS = {
+    "append", "clear", "copy", "count", "endswith", "extend", "find", "get", "index", "insert", "isdigit", "items",
+    "join", "keys", "partition", "pop", "remove", "replace", "reverse", "setdefault", "split", "startswith", "strip",
+    "update", "values", "zfill",
+}
+NODES_BARRED = (
+    ast.Div, ast.Global, ast.AsyncFunctionDef, ast.Await, ast.GeneratorExp, ast.Starred, ast.Import, ast.Try, ast.Set,
+)
+
+
+def sources():
+    """Pairs (file name, text) of the package."""
+    found = []
+    for name in sorted(os.listdir(FOLDER)):
+        if name != "__pycache__":
+            with open(os.path.join(FOLDER, name), encoding="utf-8", newline="") as file:
+                found.append((name, file.read()))
+    return found
+
+
+def functions_of(tree):
+    return [node for node in ast.walk(tree) if isinstance(node, ast.FunctionDef)]
+
+
+def docstrings_of(tree):
+    """The nodes of the strings that are docstrings."""
+    held = [tree] + [node for node in ast.walk(tree) if isinstance(node, (ast.FunctionDef, ast.ClassDef))]
+    return [node.body[0].value for node in held if ast.get_docstring(node) is not None]
+
+
+class TestLanguage(unittest.TestCase):
+    def test_files(self):
+        for name, text in sources():
+            self.assertRegex(name, r"^[a-z_]+\.py$")
+            self.assertTrue(all([character == "\n" or " " <= character <= "~" for character in text]), name)
+            self.assertLessEqual(len(text.splitlines()), 399, name)
+            self.assertLessEqual(max([len(line) for line in text.splitlines()]), 120, name)
+
+    def test_functions_are_small(self):
+        for name, text in sources():
+            for function in functions_of(ast.parse(text)):
+                self.assertLessEqual(function.end_lineno - function.lineno + 1, 40, (name, function.name))
+
+    def test_nodes(self):
+        for name, text in sources():
+            tree = ast.parse(text)
+            docstrings = docstrings_of(tree)
+            for node in ast.walk(tree):
+                self.assertNotIsInstance(node, NODES_BARRED, name)
+                if isinstance(node, ast.Constant) and node not in docstrings:
+                    self.assertNotIsInstance(node.value, float, name)
+                    self.assertNotIn("%", str(node.value), name)
+
+    def test_imports(self):
+        names = [name[:-3] for name, text in sources()]
+        for name, text in sources():
+            for node in ast.walk(ast.parse(text)):
+                if isinstance(node, ast.ImportFrom):
+                    package, _, file = node.module.partition(".")
+                    self.assertTrue(file in names if package == "leastfile" else node.module in IMPORTS, name)
+                    for alias in node.names:
+                        self.assertIsNone(alias.asname)
+                        self.assertIn(alias.name, IMPORTS.get(node.module, [alias.name]), name)
+
+    def test_no_two_files_import_each_other(self):
+        rows = {}
+        for name, text in sources():
+            nodes = [node for node in ast.walk(ast.parse(text)) if isinstance(node, ast.ImportFrom)]
+            rows[name[:-3]] = {node.module.partition(".")[2] for node in nodes if node.module not in IMPORTS}
+        while rows:
+            free = [name for name in rows if not rows[name] & set(rows)]
+            self.assertTrue(free, rows)
+            rows = {name: rows[name] for name in rows if name not in free}
+
+    def test_names_that_are_called(self):
+        own = set()
+        for name, text in sources():
+            for node in ast.walk(ast.parse(text)):
+                if isinstance(node, (ast.FunctionDef, ast.ClassDef)):
+                    own.add(node.name)
+        for name, text in sources():
+            for node in ast.walk(ast.parse(text)):
+                if isinstance(node, ast.Call) and isinstance(node.func, ast.Name):
+                    self.assertIn(node.func.id, BUILTINS | own | {"gcd"}, name)
+                if isinstance(node, ast.Call) and isinstance(node.func, ast.Attribute):
+                    self.assertIn(node.func.attr, METHODS | own, name)
+
+
+class TestInterface(unittest.TestCase):
+    def test_names_stand_in_their_files(self):
+        found = dict(sources())
+        for name, listed in INTERFACE.items():
+            defined = []
+            for node in ast.parse(found[name]).body:
+                if isinstance(node, (ast.FunctionDef, ast.ClassDef)):
+                    defined.append(node.name)
+                if isinstance(node, ast.ClassDef):
+                    defined += [node.name + "." + below.name for below in functions_of(node)]
+            for each in listed:
+                self.assertIn(each, defined, name)

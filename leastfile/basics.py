@@ -5,6 +5,8 @@ from math import gcd
 from leastfile.errors import BadNumber, BadText
 
 END = "end"
+MOST_LENGTH = 8
+MOST_DISTANCE = 8
 
 
 def is_integer(thing):
@@ -26,7 +28,7 @@ def is_copy(thing):
     """Tell whether something is a pair (length, distance) that is a copy."""
     if not isinstance(thing, tuple) or len(thing) != 2:
         return False
-    return is_between(thing[0], 2, 8) and is_between(thing[1], 1, 8)
+    return is_between(thing[0], 2, MOST_LENGTH) and is_between(thing[1], 1, MOST_DISTANCE)
 
 
 def is_command(letters, thing):

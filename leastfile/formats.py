@@ -118,9 +118,10 @@ def _words_for(letters, prices):
     words = {}
     number = 0
     bits = 0
-    for command in sorted(_in_order(letters, prices), key=lambda each: prices[each]):
-        number = number << (prices[command] - bits)
-        bits = prices[command]
-        words[command] = f"{number:b}".zfill(bits)
+    commands = _in_order(letters, prices)
+    for price, place in sorted([(prices[command], place) for place, command in enumerate(commands)]):
+        number = number << (price - bits)
+        words[commands[place]] = f"{number:b}".zfill(price)
         number += 1
+        bits = price
     return words

@@ -3,6 +3,7 @@
 from leastfile import errors
 from leastfile.formats import Format, coded
 from leastfile.readers import Reader
+from leastfile.rules import Rule
 
 GREAT = 10 ** 60 - 1
 
@@ -45,7 +46,7 @@ def things():
         (), (2, 1), (2, True), (True, 1), (1, 2), (9, 1), (2, 9), (2, 0), (2, 1, 1), ("2", 1), ((2, 1), 1), (2, -1),
         [], [2, 1], ["a"], ["a", "b"], [0], [[0]], [None], [True], [GREAT],
         {}, {"a": 1}, {"a": "0", "end": "1"}, {(2, 1): "a"}, {0: []}, {None: {}},
-        deep(), [coding], (coding, coding), coding, Reader(coding), errors.BadText(3), errors.NoCommand(),
+        deep(), [coding], (coding, coding), coding, Reader(coding), Rule("lazy"), [Rule("ahead", 3)], errors.BadText(3), errors.NoCommand(),
     ]
 
 
@@ -59,6 +60,8 @@ def picture(thing):
         return str((thing.letters, thing.words, thing.window, thing.longest, thing.commands()))
     if isinstance(thing, Reader):
         return str((thing.text(), thing.way(), thing.may(), thing.lack(), thing.is_whole()))
+    if isinstance(thing, Rule):
+        return str((thing.kind, thing.ahead))
     return repr(thing)
 
 
@@ -137,3 +140,48 @@ def texts(letters, most):
         level = [text + letter for text in level for letter in letters]
         found += level
     return found
+
+
+def pairs_to_try():
+    """Pairs of a format and a short text: all short texts of its letters, and some in which long copies can stand."""
+    found = []
+    for coding in formats():
+        letters = coding.letters
+        first, last = letters[0], letters[-1]
+        found += [(coding, text) for text in texts(letters, {1: 9, 2: 6, 4: 3}[len(letters)])]
+        found += [(coding, text) for text in (first * 10, (first + last) * 5, (first + first + last) * 3 + last)]
+        found += [(coding, (letters * 3)[:9]), (coding, first + last * 8)]
+    return found
+
+
+def steps_between(coding, text):
+    """The steps of a text as triples (place, command, place behind), found by trying each command at each place."""
+    found = []
+    for at in range(len(text)):
+        for command in coding.words:
+            if command != "end":
+                longer = put(text[:at], command)
+                if longer is not None and text.startswith(longer):
+                    found.append((at, command, len(longer)))
+    return found
+
+
+def places_of(way):
+    """The places at which the commands of a way begin, and the last one."""
+    places = [0]
+    for command in way:
+        places.append(places[-1] + (1 if isinstance(command, str) else command[0]))
+    return places
+
+
+def wrong_texts():
+    """Pairs of what is no text of the letters of the plain format, and the place that BadText tells."""
+    found = [(thing, -1) for thing in things() if not isinstance(thing, str)]
+    found += [("c", 0), ("abc", 2), ("abcab", 2), ("A", 0), ("ab ", 2), ("a\n", 1), ("b0", 1), ("ab\u00e9z", 2)]
+    return found + [("ab" * 200 + "x", 400), ("end", 0)]
+
+
+def check_wrong_texts(test, function, *more):
+    """Check that a function of the plain format, a text and more looks at the text first."""
+    for text, place in wrong_texts():
+        raises(test, errors.BadText(place), function, plain(), text, *more)

@@ -14,6 +14,10 @@ INTERFACE = {
     "files.py": ["spread", "written", "read", "text_of"],
     "readers.py": ["Reader", "Reader.push", "Reader.text", "Reader.way", "Reader.is_whole", "Reader.may",
                    "Reader.lack", "Reader.undo"],
+    "copying.py": ["copies"],
+    "shortest.py": ["costs", "least", "shortest", "how_many", "shortest_at", "check_heights"],
+    "bounded.py": ["least_of", "least_through", "needs"],
+    "rules.py": ["Rule", "Rule.sight", "Rule.__eq__", "packed", "taken", "loss"],
 }
 
 IMPORTS = {"math": {"gcd"}}

@@ -6,7 +6,7 @@ from fractions import Fraction
 from leastfile.errors import BadFormat, NoCommand
 from leastfile.formats import Format, coded, room
 from leastfile.readers import Reader
-from tests.helping import GREAT, deep, formats, picture, plain, raises, things
+from tests.helping import GREAT, formats, picture, plain, raises, things
 
 WORDS = {"a": "00", "b": "01", (2, 1): "110", (3, 2): "10", "end": "111"}
 PRICES = {"a": 2, "b": 2, (2, 1): 3, (3, 2): 2, "end": 3}
@@ -111,7 +111,7 @@ class TestWrongFormats(unittest.TestCase):
     def test_keys_that_are_no_commands(self):
         words = {"a": "0", "end": "10"}
         keys = ["b", "A", "", "aa", "End", 0, None, True, (1, 1), (9, 1), (2, 0), (2, 9), (2, True), (True, 2), (2,),
-                (2, 1, 1), ("2", "1"), (2, None), ((2, 1),), deep()[:0], Reader(plain()), -1, GREAT, (GREAT, 1)]
+                (2, 1, 1), ("2", "1"), (2, None), ((2, 1),), (), Reader(plain()), -1, GREAT, (GREAT, 1)]
         for key in keys:
             raises(self, BadFormat("words"), Format, "a", {**words, key: "11"})
             raises(self, BadFormat("prices"), coded, "a", {"a": 1, "end": 2, key: 2})

@@ -2,8 +2,9 @@
 
 from math import gcd
 
-from leastfile.errors import BadNumber, BadText
+from leastfile.errors import BadNumber, BadText, BadTexts, BadView
 
+ALPHABET = "abcdefghijklmnopqrstuvwxyz"
 END = "end"
 MOST_LENGTH = 8
 MOST_DISTANCE = 8
@@ -24,9 +25,33 @@ def is_bits(thing):
     return isinstance(thing, str) and thing.strip("01") == ""
 
 
+def is_text(thing):
+    """Tell whether something is a string of letters, whatever the format, perhaps an empty one."""
+    return isinstance(thing, str) and thing.strip(ALPHABET) == ""
+
+
+def is_pair(thing):
+    """Tell whether something is a tuple of two things."""
+    return isinstance(thing, tuple) and len(thing) == 2
+
+
+def is_fraction(thing):
+    """Tell whether something is a pair (top, bottom) of integers in lowest terms, bottom at least 1."""
+    if not is_pair(thing) or not is_integer(thing[0]) or not is_integer(thing[1]):
+        return False
+    return thing[1] >= 1 and gcd(thing[0], thing[1]) == 1
+
+
+def is_of_form(thing, form):
+    """Tell whether something is a tuple of texts, integers and tuples of integers, as a form names them one by one."""
+    if not isinstance(thing, tuple) or len(thing) != len(form):
+        return False
+    return all([_is_of_kind(item, kind) for item, kind in zip(thing, form)])
+
+
 def is_copy(thing):
     """Tell whether something is a pair (length, distance) that is a copy."""
-    if not isinstance(thing, tuple) or len(thing) != 2:
+    if not is_pair(thing):
         return False
     return is_between(thing[0], 2, MOST_LENGTH) and is_between(thing[1], 1, MOST_DISTANCE)
 
@@ -76,13 +101,47 @@ def check_text(coding, text):
             raise BadText(place)
 
 
+def check_letter(coding, letter):
+    """Raise BadText for what is not one letter of the format."""
+    if not isinstance(letter, str) or len(letter) != 1 or letter not in coding.letters:
+        raise BadText(-1)
+
+
+def check_texts(coding, texts):
+    """Raise BadTexts for what is not a list of strings, BadText for the first one with a wrong letter."""
+    if not isinstance(texts, list) or not all([isinstance(text, str) for text in texts]):
+        raise BadTexts()
+    for text in texts:
+        check_text(coding, text)
+
+
+def check_view(view, form):
+    """Raise BadView for what is not a tuple of a form."""
+    if not is_of_form(view, form):
+        raise BadView()
+
+
 def check_number(number, low, high, part):
     """Raise BadNumber for what is not an integer from low to high."""
     if not is_between(number, low, high):
         raise BadNumber(part)
 
 
+def last_letters(text, many):
+    """The last letters of a text, or all if there are fewer."""
+    return text[max(0, len(text) - many):]
+
+
 def fraction(top, bottom):
     """The fraction top / bottom in lowest terms, for a bottom above 0."""
     shared = gcd(top, bottom)
     return (top // shared, bottom // shared)
+
+
+def _is_of_kind(thing, kind):
+    """Tell whether something is a text, an integer or a tuple of integers, as kind names it."""
+    if kind == "text":
+        return is_text(thing)
+    if kind == "integer":
+        return is_integer(thing)
+    return isinstance(thing, tuple) and all([is_integer(item) for item in thing])

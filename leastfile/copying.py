@@ -30,9 +30,21 @@ def steps_at(prices, text, at):
     return steps
 
 
-def steps_of(prices, text):
-    """A list of the steps from each place of a text but the last one."""
-    return [steps_at(prices, text, at) for at in range(len(text))]
+def steps_of(prices, text, before=""):
+    """A list of the steps from each place of a text but the last one, if the letters of before stand ahead of it."""
+    begin = len(before)
+    whole = before + text
+    rows = [steps_at(prices, whole, at) for at in range(begin, len(whole))]
+    return [[(command, price, behind - begin) for command, price, behind in row] for row in rows]
+
+
+def steps_ending(prices, text):
+    """The steps that end at the last place of a text: pairs (reach, price)."""
+    steps = [(1, prices[text[-1]])]
+    for command in prices:
+        if isinstance(command, tuple) and _can_stand(command, text, len(text) - command[0]):
+            steps.append((command[0], prices[command]))
+    return steps
 
 
 def sums_to_end(steps):

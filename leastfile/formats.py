@@ -1,9 +1,8 @@
 """Formats: the letters of texts, and the words that commands are written as."""
 
-from leastfile.basics import END, distance_of, fraction, is_between, is_bits, is_command, reach_of
+from leastfile.basics import ALPHABET, END, distance_of, fraction, is_between, is_bits, is_command, reach_of
 from leastfile.errors import BadFormat, NoCommand
 
-ALPHABET = "abcdefghijklmnopqrstuvwxyz"
 MOST_LETTERS = 4
 MOST_COMMANDS = 40
 MOST_BITS = 12

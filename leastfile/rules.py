@@ -1,6 +1,7 @@
 """Rules that pack a text from left to right."""
 
-from leastfile.basics import END, MOST_DISTANCE, check_number, check_text, is_between, is_integer, reach_of
+from leastfile.basics import END, MOST_DISTANCE, check_number, check_text, is_between, is_integer
+from leastfile.basics import last_letters, reach_of
 from leastfile.copying import prices_of, standing, steps_at, steps_of, sums_to_end
 from leastfile.errors import BadRule
 from leastfile.shortest import least
@@ -110,10 +111,8 @@ def _greatest_length(prices, text, at):
 def _looking_ahead(prices, text, at, ahead):
     """The choice of "ahead"."""
     # No copy reaches further back, and no row goes beyond the last one of the letters ahead.
-    begin = max(0, at - MOST_DISTANCE)
-    here = at - begin
-    steps = steps_of(prices, text[begin:at + ahead])
+    steps = steps_of(prices, text[at:at + ahead], last_letters(text[:at], MOST_DISTANCE))
     sums = sums_to_end(steps)
-    fitting = [step for step in steps[here] if step[1] + sums[step[2]] == sums[here]]
+    fitting = [step for step in steps[0] if step[1] + sums[step[2]] == sums[0]]
     # Of equals min takes the first one, and the steps stand in the order of commands.
-    return min(fitting, key=lambda step: (here - step[2], step[1]))[0]
+    return min(fitting, key=lambda step: (-step[2], step[1]))[0]

@@ -1,11 +1,15 @@
 """What the tests share: formats, things of all kinds, and slow but sure ways to list files."""
 
+from fractions import Fraction
+
 from leastfile import errors
 from leastfile.formats import Format, coded
 from leastfile.readers import Reader
-from leastfile.rules import Rule
+from leastfile.rules import Rule, taken
+from leastfile.shortest import costs
 
 GREAT = 10 ** 60 - 1
+ROWS = {}
 
 
 def plain():
@@ -185,3 +189,144 @@ def check_wrong_texts(test, function, *more):
     """Check that a function of the plain format, a text and more looks at the text first."""
     for text, place in wrong_texts():
         raises(test, errors.BadText(place), function, plain(), text, *more)
+
+
+def rules():
+    return [Rule(kind) for kind in ("longest", "cheapest", "lazy")] + [Rule("ahead", ahead) for ahead in range(1, 9)]
+
+
+def last(text, many):
+    return text[len(text) - min(many, len(text)):]
+
+
+def dearer(sums, longest):
+    """How much dearer the places ahead of the last one are, of a list of costs."""
+    back = min(len(sums) - 1, longest - 1)
+    return tuple([sums[-1 - k] - sums[-1] for k in range(1, back + 1)])
+
+
+def reckoned(coding, rule):
+    """A function that tells the view of a text, all that was paid and all that was gained, from all letters so far."""
+    sight = rule.sight(coding)
+
+    def reckon(text):
+        at = 0
+        paid = 0
+        while len(text) - at >= sight:
+            command = taken(coding, rule, text, at)
+            paid += coding.price(command)
+            at += command[0] if isinstance(command, tuple) else 1
+        sums = costs(coding, text)
+        tail = last(text, coding.window + max(coding.longest, sight) - 1)
+        return ((tail, len(text) - at, dearer(sums, coding.longest)), paid, sums[-1])
+    return reckon
+
+
+def reckoned_two(one, other):
+    """The same for the view of two formats, and what each of them gained."""
+    def reckon(text):
+        tail = last(text, max(one.window + one.longest, other.window + other.longest) - 1)
+        sums = costs(one, text)
+        other_sums = costs(other, text)
+        view = (tail, dearer(sums, one.longest), dearer(other_sums, other.longest))
+        return (view, sums[-1], other_sums[-1])
+    return reckon
+
+
+def all_views(letters, reckon):
+    """All views, in the order of their least texts, with these texts: a dict from the views."""
+    found = {reckon("")[0]: ""}
+    order = [""]
+    for text in order:
+        for letter in letters:
+            view = reckon(text + letter)[0]
+            if view not in found:
+                found[view] = text + letter
+                order.append(text + letter)
+    return found
+
+
+def rows_of(coding, rule):
+    """The rows of a format and a rule, reckoned once for all tests."""
+    key = (coding.letters, tuple([coding.price(command) for command in coding.commands()]),
+           tuple(coding.commands()), rule.kind, rule.ahead)
+    if key not in ROWS:
+        ROWS[key] = all_rows(coding.letters, reckoned(coding, rule))
+    return ROWS[key]
+
+
+def all_rows(letters, reckon):
+    """A dict from pairs (view, letter) to triples (next view, paid, gained), each reckoned anew from a whole text."""
+    rows = {}
+    for view, text in all_views(letters, reckon).items():
+        _, paid, gained = reckon(text)
+        for letter in letters:
+            behind, all_paid, all_gained = reckon(text + letter)
+            rows[(view, letter)] = (behind, all_paid - paid, all_gained - gained)
+    return rows
+
+
+def quotient_of(rows, first, pair):
+    """The quotient of paid and gained sums of a pair of texts, a fraction, or None if the second one is no ring."""
+    view = first
+    for letter in pair[0]:
+        view = rows[(view, letter)][0]
+    begin = view
+    paid = gained = 0
+    for letter in pair[1]:
+        view, more, gain = rows[(view, letter)]
+        paid += more
+        gained += gain
+    if view != begin or pair[1] == "":
+        return None
+    return (Fraction(paid, gained).numerator, Fraction(paid, gained).denominator)
+
+
+def is_table_for(rows, first, r, table):
+    """Tell whether a list of pairs (view, height) is a table, its forms being right."""
+    heights = {view: Fraction(*height) for view, height in table}
+    if len(heights) != len(table) or set(heights) != {view for view, _ in rows} or heights[first] != 0:
+        return False
+    return all(heights[behind] >= heights[view] + paid - Fraction(*r) * gained
+               for (view, _), (behind, paid, gained) in rows.items())
+
+
+def tables_that_are_none(table):
+    """Things that look like a table for a share, but are none: pairs of what is wrong, and the thing."""
+    tiny = 10 ** 12
+    found = [("no list", tuple(table)), ("a dict", dict(table)), ("none", None), ("empty", []),
+             ("one is missing", table[:-1]), ("the first is missing", table[1:]), ("one twice", table + table[-1:]),
+             ("one instead of another", table[1:] + table[-1:]), ("one more", table + [(("z" * 30, 0, ()), (0, 1))]),
+             ("one more of another form", table + [(7, (0, 1))])]
+    if len(table) == 1:
+        found = [row for row in found if row[0] != "one instead of another"]
+    for number in sorted({0, 1, len(table) // 2, len(table) - 1} & set(range(len(table)))):
+        view, (top, bottom) = table[number]
+        flags = tuple([bool(item) if item in (0, 1) and not isinstance(item, str) else item for item in view])
+        lists = tuple([list(item) if isinstance(item, tuple) else item for item in view])
+        low = Fraction(top, bottom) - Fraction(1, tiny)
+        rows = [("a list as a pair", [view, (top, bottom)]), ("a triple", (view, (top, bottom), 0)),
+                ("a pair without a view", ((top, bottom),)), ("lowered", (view, (low.numerator, low.denominator))),
+                ("not in lowest terms", (view, (2 * top, 2 * bottom))), ("bottom below 0", (view, (-top, -bottom))),
+                ("bottom 0", (view, (top, 0))), ("an integer", (view, top)), ("None", (view, None)),
+                ("a list as a fraction", (view, [top, bottom])), ("a string", (view, (str(top), bottom))),
+                ("three", (view, (top, bottom, 1))), ("no pair", 7), ("lists in the view", (lists, (top, bottom))),
+                ("a list as a view", (list(view), (top, bottom))), ("no view", ("", (top, bottom)))]
+        if bottom == 1:
+            rows.append(("a flag", (view, (top, True))))
+        if [type(item) for item in flags] != [type(item) for item in view]:
+            rows.append(("flags in the view", (flags, (top, bottom))))
+        if number == 0:
+            rows.append(("raised", (view, (1, tiny))))
+        found += [(wrong, table[:number] + [row] + table[number + 1:]) for wrong, row in rows]
+    return found
+
+
+def rings_that_are_none(letters, pair):
+    """Things that look like a pair that shows a share, but are none: pairs of what is wrong, and the thing."""
+    begin, ring = pair
+    return [("a list", [begin, ring]), ("three", (begin, ring, "")), ("one", (begin,)), ("a string", begin + ring),
+            ("no round", (begin, "")), ("neither", ("", "")), ("no text", (None, ring)), ("no round text", (begin, 7)),
+            ("lists", (list(begin), list(ring))), ("other letters", (begin, ring + "?")), ("none", None),
+            ("other letters ahead", ("B" + begin, ring)), ("a dict", {begin: ring}), ("nested", ((begin, ring), ring)),
+            ("too long", (begin, ring * (3000 // len(ring) + 1))), ("too long ahead", (letters[0] * 3001, letters[0]))]

@@ -18,6 +18,10 @@ INTERFACE = {
     "shortest.py": ["costs", "least", "shortest", "how_many", "shortest_at", "check_heights"],
     "bounded.py": ["least_of", "least_through", "needs"],
     "rules.py": ["Rule", "Rule.sight", "Rule.__eq__", "packed", "taken", "loss"],
+    "views.py": ["first_view", "step", "rest", "views"],
+    "shares.py": ["share", "ring", "table", "check_ring", "check_table"],
+    "losses.py": ["greatest_loss", "worst_text", "loss_at"],
+    "pairs.py": ["step_of_two", "share_of", "ring_of", "table_of", "check_ring_of", "check_table_of"],
 }
 
 IMPORTS = {"math": {"gcd"}}
@@ -25,6 +29,8 @@ BUILTINS = {
     "len", "range", "enumerate", "zip", "min", "max", "sum", "abs", "sorted", "reversed", "int", "str", "bool", "list",
     "tuple", "dict", "set", "isinstance", "any", "all", "divmod", "property", "ValueError",
 }
+# Imported functions, and parameters that are functions.
+CALLED = {"gcd", "moved"}
 METHODS = {
     "append", "clear", "copy", "count", "endswith", "extend", "find", "get", "index", "insert", "isdigit", "items",
     "join", "keys", "partition", "pop", "remove", "replace", "reverse", "setdefault", "split", "startswith", "strip",
@@ -108,7 +114,7 @@ class TestLanguage(unittest.TestCase):
         for name, text in sources():
             for node in ast.walk(ast.parse(text)):
                 if isinstance(node, ast.Call) and isinstance(node.func, ast.Name):
-                    self.assertIn(node.func.id, BUILTINS | own | {"gcd"}, name)
+                    self.assertIn(node.func.id, BUILTINS | own | CALLED, name)
                 if isinstance(node, ast.Call) and isinstance(node.func, ast.Attribute):
                     self.assertIn(node.func.attr, METHODS | own, name)
 

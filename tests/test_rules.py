@@ -8,15 +8,11 @@ from leastfile.files import read, spread
 from leastfile.formats import coded
 from leastfile.rules import Rule, loss, packed, taken
 from leastfile.shortest import least
-from tests.helping import (GREAT, bits_of, formats, pairs_to_try, picture, plain, raises, steps_between, texts, things,
-                           ways_of, wrong_texts)
+from tests.helping import (GREAT, bits_of, formats, pairs_to_try, picture, plain, raises, rules, steps_between, texts,
+                           things, ways_of, wrong_texts)
 
 KINDS = ("longest", "cheapest", "lazy")
 EQUALS = coded("ab", {"a": 3, "b": 4, "end": 4, (2, 1): 6, (2, 2): 6, (3, 1): 5, (3, 2): 4, (4, 1): 5, (4, 3): 5})
-
-
-def rules():
-    return [Rule(kind) for kind in KINDS] + [Rule("ahead", ahead) for ahead in range(1, 9)]
 
 
 def reach(command):

@@ -41,13 +41,13 @@ class Reader:
 
     def may(self):
         """The bits that can come next."""
-        return "".join([bit for bit in "01" if self._candidates(self._begun + bit)])
+        return "".join([bit for bit in "01" if self._coming(self._begun + bit)])
 
     def lack(self):
         """The least number of bits that must follow until a file is whole."""
         if self.is_whole():
             return 0
-        return min([self._due(command) for command in self._candidates(self._begun)])
+        return bits_due(self._words, self._begun, len(self._letters))
 
     def undo(self, many=1):
         """Take back the last bits."""
@@ -56,22 +56,11 @@ class Reader:
         for _ in range(many):
             self._take_back()
 
-    def _candidates(self, begun):
+    def _coming(self, begun):
         """The commands that can come, as far as their words begin so."""
         if self.is_whole():
             return []
-        ahead = len(self._letters)
-        return [
-            command for command in self._words
-            if self._words[command].startswith(begun) and distance_of(command) <= ahead
-        ]
-
-    def _due(self, command):
-        """How many bits follow if this command comes, and then the end."""
-        bits = len(self._words[command]) - len(self._begun)
-        if command == END:
-            return bits
-        return bits + len(self._words[END])
+        return commands_coming(self._words, begun, len(self._letters))
 
     def _put(self, command):
         """Do what a command whose word has ended says; return the letters that it puts."""
@@ -90,3 +79,17 @@ class Reader:
                 self._letters.pop()
         self._begun = self._begun[:-1]
         self._taken -= 1
+
+
+def commands_coming(words, begun, ahead):
+    """The commands whose words begin so and that reach back over at most so many letters ahead."""
+    return [command for command in words if words[command].startswith(begun) and distance_of(command) <= ahead]
+
+
+def bits_due(words, begun, ahead):
+    """The least number of bits behind the begun ones until an "end" is whole, with so many letters ahead."""
+    due = []
+    for command in commands_coming(words, begun, ahead):
+        bits = len(words[command]) - len(begun)
+        due.append(bits if command == END else bits + len(words[END]))
+    return min(due)

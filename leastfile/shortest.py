@@ -24,7 +24,12 @@ def least(coding, text):
 def shortest(coding, text):
     """The least of the files with the least number of bits."""
     check_text(coding, text)
-    rows = _least_rows(coding, text)
+    return shortest_behind(coding, "", text)
+
+
+def shortest_behind(coding, before, text):
+    """The least row of words for a text and "end" with the least number of bits, if other letters stand ahead of it."""
+    rows = _least_rows(coding, before, text)
     words = []
     at = 0
     while at < len(rows):
@@ -36,13 +41,13 @@ def shortest(coding, text):
 def how_many(coding, text):
     """The number of the files with the least number of bits."""
     check_text(coding, text)
-    return _counts(_least_rows(coding, text))[0]
+    return _counts(_least_rows(coding, "", text))[0]
 
 
 def shortest_at(coding, text, number):
     """The file with a number among those with the least number of bits, in ascending order."""
     check_text(coding, text)
-    rows = _least_rows(coding, text)
+    rows = _least_rows(coding, "", text)
     counts = _counts(rows)
     check_number(number, 0, counts[0] - 1, "number")
     words = []
@@ -66,10 +71,10 @@ def check_heights(coding, text, bits, thing):
     return thing[-1] + coding.price(END) >= bits
 
 
-def _least_rows(coding, text):
+def _least_rows(coding, before, text):
     """For each place but the last one, the steps there of the shortest files: ascending pairs (word, place behind)."""
     words = coding.words
-    steps = steps_of(prices_of(coding), text)
+    steps = steps_of(prices_of(coding), text, before)
     sums = sums_to_end(steps)
     rows = []
     for at, row in enumerate(steps):

@@ -24,7 +24,7 @@ class Packer:
         tail, waits, dearer = view
         text = tail + letter
         gained, dearer = self._gauge.gained(text, dearer)
-        waits, paid = self._taken(text, waits + 1)
+        waits, paid = self._due(text, waits + 1)
         return ((last_letters(text, self._most), waits, dearer), paid, gained)
 
     def rest(self, view):
@@ -37,7 +37,7 @@ class Packer:
             waits -= reach_of(command)
         return total
 
-    def _taken(self, text, waits):
+    def _due(self, text, waits):
         """How many of the last letters still wait if a command is taken as soon as it can be, and its price."""
         if waits < self._sight:
             return (waits, 0)

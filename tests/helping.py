@@ -50,7 +50,8 @@ def things():
         (), (2, 1), (2, True), (True, 1), (1, 2), (9, 1), (2, 9), (2, 0), (2, 1, 1), ("2", 1), ((2, 1), 1), (2, -1),
         [], [2, 1], ["a"], ["a", "b"], [0], [[0]], [None], [True], [GREAT],
         {}, {"a": 1}, {"a": "0", "end": "1"}, {(2, 1): "a"}, {0: []}, {None: {}},
-        deep(), [coding], (coding, coding), coding, Reader(coding), Rule("lazy"), [Rule("ahead", 3)], errors.BadText(3), errors.NoCommand(),
+        deep(), [coding], (coding, coding), coding, Reader(coding), Rule("lazy"), [Rule("ahead", 3)],
+        errors.BadText(3), errors.NoCommand(),
     ]
 
 

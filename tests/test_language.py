@@ -1,6 +1,7 @@
 """The language of the package's files, and that the interface is defined where it must be."""
 
 import ast
+import builtins
 import os
 import unittest
 
@@ -22,22 +23,27 @@ INTERFACE = {
     "shares.py": ["share", "ring", "table", "check_ring", "check_table"],
     "losses.py": ["greatest_loss", "worst_text", "loss_at"],
     "pairs.py": ["step_of_two", "share_of", "ring_of", "table_of", "check_ring_of", "check_table_of"],
+    "compared.py": ["unlike_text", "dearest", "dearest_text", "needless", "needed_by", "without", "trimmed"],
+    "growing.py": ["Growing", "Growing.add", "Growing.add_all", "Growing.text", "Growing.least", "Growing.file",
+                   "Growing.back", "Growing.trying", "Growing.trial", "Growing.tried", "kept"],
+    "archives.py": ["least_behind", "least_archive", "archive", "texts_of", "best_order"],
+    "texts.py": ["format_text", "read_format", "way_text", "read_way"],
 }
 
-IMPORTS = {"math": {"gcd"}}
+IMPORTS = {"math": {"gcd"}, "itertools": {"permutations"}}
 BUILTINS = {
     "len", "range", "enumerate", "zip", "min", "max", "sum", "abs", "sorted", "reversed", "int", "str", "bool", "list",
     "tuple", "dict", "set", "isinstance", "any", "all", "divmod", "property", "ValueError",
 }
 # Imported functions, and parameters that are functions.
-CALLED = {"gcd", "moved"}
+CALLED = {"gcd", "permutations", "moved", "deed"}
 METHODS = {
     "append", "clear", "copy", "count", "endswith", "extend", "find", "get", "index", "insert", "isdigit", "items",
-    "join", "keys", "partition", "pop", "remove", "replace", "reverse", "setdefault", "split", "startswith", "strip",
-    "update", "values", "zfill",
+    "join", "keys", "partition", "pop", "remove", "removeprefix", "replace", "reverse", "setdefault", "split",
+    "startswith", "strip", "update", "values", "zfill",
 }
 NODES_BARRED = (
-    ast.Div, ast.Global, ast.AsyncFunctionDef, ast.Await, ast.GeneratorExp, ast.Starred, ast.Import, ast.Try, ast.Set,
+    ast.Div, ast.Global, ast.AsyncFunctionDef, ast.Await, ast.GeneratorExp, ast.Starred, ast.Import, ast.Set,
 )
 
 
@@ -117,6 +123,38 @@ class TestLanguage(unittest.TestCase):
                     self.assertIn(node.func.id, BUILTINS | own | CALLED, name)
                 if isinstance(node, ast.Call) and isinstance(node.func, ast.Attribute):
                     self.assertIn(node.func.attr, METHODS | own, name)
+
+
+    def test_local_names(self):
+        for name, text in sources():
+            tree = ast.parse(text)
+            barred = set(dir(builtins)) | {node.name for node in ast.walk(tree) if isinstance(node, ast.ClassDef)}
+            for node in ast.walk(tree):
+                if isinstance(node, ast.ImportFrom):
+                    barred |= {alias.name for alias in node.names}
+            for node in ast.walk(tree):
+                if isinstance(node, ast.arg):
+                    self.assertNotIn(node.arg, barred, name)
+                if isinstance(node, ast.Name) and isinstance(node.ctx, ast.Store):
+                    self.assertNotIn(node.id, barred, name)
+
+    def test_no_name_is_a_method_and_an_attribute(self):
+        methods, attributes = set(), set()
+        for name, text in sources():
+            for node in ast.walk(ast.parse(text)):
+                if isinstance(node, ast.ClassDef):
+                    methods |= {function.name for function in functions_of(node)}
+                if isinstance(node, ast.Attribute) and isinstance(node.ctx, ast.Store):
+                    attributes.add(node.attr)
+        self.assertEqual(methods & attributes, set())
+
+    def test_handlers_name_own_errors(self):
+        for name, text in sources():
+            for node in ast.walk(ast.parse(text)):
+                if isinstance(node, ast.ExceptHandler):
+                    self.assertIn(node.type.id, INTERFACE["errors.py"], name)
+                if isinstance(node, ast.Try):
+                    self.assertEqual(node.finalbody, [], name)
 
 
 class TestInterface(unittest.TestCase):

@@ -107,7 +107,8 @@ class TestStep(unittest.TestCase):
     def test_no_views(self):
         wrong = [("", 0), ("", 0, (), ()), ["", 0, ()], ("", 0, []), ("", False, ()), ("", 0, (True,)), ("", "0", ()),
                  (["a"], 1, (-2,)), ("a", 1, (-2, None)), ("A", 1, (-2,)), ("a b", 3, (0, 0)), (None, 0, ()),
-                 ("", 0, 0), ("", (), 0), ("a\n", 1, ()), ("a", None, (-2,)), ("", 0, ((0,),)), ("", 0, ""), ("\u00e9", 1, ())]
+                 ("", 0, 0), ("", (), 0), ("a\n", 1, ()), ("a", None, (-2,)), ("", 0, ((0,),)), ("", 0, ""),
+                 ("\u00e9", 1, ())]
         for rule in (Rule("longest"), Rule("ahead", 8)):
             for thing in things() + wrong:
                 raises(self, BadView(), step, plain(), rule, thing, "a")

@@ -99,15 +99,14 @@ class TestDearest(unittest.TestCase):
 
     def test_least_of_several(self):
         # Letters cost one bit more in the one format, and copies of two letters spare more than that again.
-        one = {"b": 5, "c": 5, "end": 4}
-        other = {"b": 4, "c": 4, "end": 4}
-        for distance in range(1, 5):
-            one[(2, distance)] = 5
-            other[(2, distance)] = 8
-        one, other = coded("bc", one), coded("bc", other)
-        self.assertEqual((dearest(one, other), dearest_text(one, other)), (5, "bbccb"))
-        found = [text for text in texts("bc", 8) if least(one, text) - least(other, text) == 5]
-        self.assertEqual(found[:4], ["bbccb", "bccbb", "cbbcc", "ccbbc"])
+        for window, price, most, first in [(4, 5, 5, ["bbccb", "bccbb", "cbbcc", "ccbbc"]),
+                                           (5, 6, 6, ["bccbbbbccb", "cbbccccbbc"])]:
+            copies = [(2, distance) for distance in range(1, window + 1)]
+            one = coded("bc", {"b": 5, "c": 5, "end": 4, **{copy: price for copy in copies}})
+            other = coded("bc", {"b": 4, "c": 4, "end": 4, **{copy: 8 for copy in copies}})
+            told = texts("bc", len(first[0]))
+            self.assertEqual([text for text in told if least(one, text) - least(other, text) >= most], first)
+            self.assertEqual((dearest(one, other), dearest_text(one, other)), (most, first[0]))
 
     def test_arguments_by_name(self):
         dear = coded("ab", {"a": 2, "b": 2, "end": 7})

@@ -290,6 +290,11 @@ class TestKept(unittest.TestCase):
         coding = coded("a", {"a": 2, "end": 2, (2, 1): 4, (4, 1): 8})
         self.assertEqual([kept(coding, "a" * many, "aaa") for many in range(6)], [0, 1, 2, 3, 4, 5])
 
+        coding = coded("a", {"a": 5, "end": 5, (4, 3): 2, (3, 1): 6})
+        self.assertEqual(kept(coding, "a" * 7, "aaa"), 4)
+        coding = coded("ab", {"a": 2, "b": 3, "end": 4, (4, 3): 5, (2, 3): 3, (2, 1): 10})
+        self.assertEqual(kept(coding, "bbabbabb", "b"), 6)
+
     def test_long_texts(self):
         self.assertEqual(kept(coded("a", {"a": 1, "end": 1}), "a" * 400, "a" * 400), 400)
         for coding in formats():

@@ -166,6 +166,14 @@ class TestTaken(unittest.TestCase):
         self.assertEqual([taken(coding, Rule("ahead", 8), "a" * 12, at) for at in (4, 5, 9, 10, 11, 12)],
                          [(8, 1), (2, 1), (2, 1), (2, 1), "a", "end"])
 
+    def test_copies_from_afar(self):
+        coding = coded("ab", {"a": 3, "b": 3, "end": 3, (2, 8): 2})
+        for rule in rules():
+            copy = "a" if rule == Rule("ahead", 1) else (2, 8)
+            self.assertEqual(taken(coding, rule, "abbbbbbbabb", 8), copy)
+            self.assertEqual(taken(coding, rule, "abbbbbbbbab", 9), "a")
+            self.assertEqual(taken(coding, rule, "bbbabbbbbbbabb", 11), copy)
+
     def test_sight_is_enough(self):
         for coding in formats() + [EQUALS]:
             if len(coding.letters) > 2:

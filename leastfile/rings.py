@@ -9,10 +9,10 @@ MOST_RING = 3000
 class Measure:
     """The greatest quotient of a net, with a ring and a climb that show it."""
 
-    def __init__(self, net):
+    def __init__(self, net, low=(0, 1)):
+        """Find it; all rings have quotients above low."""
         self.net = net
-        # All rings have quotients above 0.
-        self.quotient = (0, 1)
+        self.quotient = low
         self._ring = []
         self._climb = Climb(net, self.quotient)
         while self._climb.rings:
@@ -59,6 +59,12 @@ def is_table(net, form, r, thing):
     return ordered[0] == (0, 1) and all([_holds(net, r, ordered, number) for number in range(len(ordered))])
 
 
+def excess(r, low, high, paid, gained):
+    """A number with the sign of: a height, less another one and what is paid, and r times what is gained more."""
+    due = (low[0] * r[1] + (paid * r[1] - r[0] * gained) * low[1], low[1] * r[1])
+    return high[0] * due[1] - due[0] * high[1]
+
+
 def _can_be_walked(net, thing):
     """Tell whether something is a text of the letters of a net that is not too long."""
     if not isinstance(thing, str) or len(thing) > MOST_RING:
@@ -73,10 +79,5 @@ def _is_row(form, thing):
 
 def _holds(net, r, heights, number):
     """Tell whether the heights rise enough on each letter from a view."""
-    return all([_rises(r, heights[number], heights[behind], paid, gained) for behind, paid, gained in net.rows[number]])
-
-
-def _rises(r, low, high, paid, gained):
-    """Tell whether one height is at least another one and what is paid less r times what is gained."""
-    due = (low[0] * r[1] + (paid * r[1] - r[0] * gained) * low[1], low[1] * r[1])
-    return high[0] * due[1] >= due[0] * high[1]
+    low = heights[number]
+    return all([excess(r, low, heights[behind], paid, gained) >= 0 for behind, paid, gained in net.rows[number]])

@@ -58,6 +58,13 @@ def read_way(text):
     return way
 
 
+def copies_by_name():
+    """A dict from the names of all copies that a format can have to these copies."""
+    lengths = range(2, MOST_LENGTH + 1)
+    distances = range(1, MOST_DISTANCE + 1)
+    return {_name_of((length, distance)): (length, distance) for length in lengths for distance in distances}
+
+
 def _name_of(command):
     """How a command is told in texts."""
     if isinstance(command, str):
@@ -68,8 +75,9 @@ def _name_of(command):
 
 def _commands_by_name():
     """A dict from the names of all commands that a format can have to these commands."""
-    copies = [(length, distance) for length in range(2, MOST_LENGTH + 1) for distance in range(1, MOST_DISTANCE + 1)]
-    return {_name_of(command): command for command in list(ALPHABET) + copies + [END]}
+    names = {name: name for name in list(ALPHABET) + [END]}
+    names.update(copies_by_name())
+    return names
 
 
 def _is_way(thing):

@@ -1,10 +1,9 @@
 """Views: what must be known of a text that is told letter by letter, to pack on and to know its least costs."""
 
-from leastfile.basics import check_letter, check_view, last_letters, reach_of
-from leastfile.copying import prices_of
+from leastfile.basics import check_letter, check_view, last_letters
 from leastfile.gauges import Gauge
 from leastfile.nets import Net
-from leastfile.rules import choice
+from leastfile.takers import Taker
 
 VIEW = ("text", "integer", "integers")
 
@@ -14,35 +13,21 @@ class Packer:
 
     def __init__(self, coding, rule):
         self._gauge = Gauge(coding)
-        self._prices = prices_of(coding)
-        self._rule = rule
-        self._sight = rule.sight(coding)
-        self._most = coding.window + max(coding.longest, self._sight) - 1
+        self._taker = Taker(coding, rule)
+        self._most = coding.window + max(coding.longest, rule.sight(coding)) - 1
 
     def moved(self, view, letter):
         """The next view behind a letter, the price of the command that is taken then, and what is gained."""
         tail, waits, dearer = view
         text = tail + letter
         gained, dearer = self._gauge.gained(text, dearer)
-        waits, paid = self._due(text, waits + 1)
+        waits, paid = self._taker.caught_up(text, waits + 1)
         return ((last_letters(text, self._most), waits, dearer), paid, gained)
 
     def rest(self, view):
         """The sum of the prices of the commands that are taken for the letters that wait."""
         tail, waits, _ = view
-        total = 0
-        while waits > 0:
-            command = choice(self._prices, self._rule, tail, len(tail) - waits)
-            total += self._prices[command]
-            waits -= reach_of(command)
-        return total
-
-    def _due(self, text, waits):
-        """How many of the last letters still wait if a command is taken as soon as it can be, and its price."""
-        if waits < self._sight:
-            return (waits, 0)
-        command = choice(self._prices, self._rule, text, len(text) - waits)
-        return (waits - reach_of(command), self._prices[command])
+        return self._taker.rest(tail, waits)
 
 
 def first_view():

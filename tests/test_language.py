@@ -28,15 +28,20 @@ INTERFACE = {
                    "Growing.back", "Growing.trying", "Growing.trial", "Growing.tried", "kept"],
     "archives.py": ["least_behind", "least_archive", "archive", "texts_of", "best_order"],
     "texts.py": ["format_text", "read_format", "way_text", "read_way"],
+    "desk.py": ["Desk", "Desk.tell", "Desk.depth", "Desk.coding"],
+    "sights.py": ["ready", "choices", "behind", "stands", "sight_share"],
+    "plans.py": ["best_plan", "check_plan", "packed_by", "enemy_plan", "check_enemy", "enemy_text"],
+    "ruled.py": ["step_of_rules", "share_of_rules", "ring_of_rules", "table_of_rules", "check_ring_of_rules",
+                 "check_table_of_rules", "unlike_packed"],
 }
 
-IMPORTS = {"math": {"gcd"}, "itertools": {"permutations"}}
+IMPORTS = {"math": {"gcd"}, "itertools": {"permutations"}, "heapq": {"heapify", "heappop", "heappush"}}
 BUILTINS = {
     "len", "range", "enumerate", "zip", "min", "max", "sum", "abs", "sorted", "reversed", "int", "str", "bool", "list",
     "tuple", "dict", "set", "isinstance", "any", "all", "divmod", "property", "ValueError",
 }
 # Imported functions, and parameters that are functions.
-CALLED = {"gcd", "permutations", "moved", "deed"}
+CALLED = {"gcd", "permutations", "heapify", "heappop", "heappush", "moved", "deed", "answer", "change"}
 METHODS = {
     "append", "clear", "copy", "count", "endswith", "extend", "find", "get", "index", "insert", "isdigit", "items",
     "join", "keys", "partition", "pop", "remove", "removeprefix", "replace", "reverse", "setdefault", "split",

@@ -311,8 +311,10 @@ def tables_that_are_none(table):
                 ("not in lowest terms", (view, (2 * top, 2 * bottom))), ("bottom below 0", (view, (-top, -bottom))),
                 ("bottom 0", (view, (top, 0))), ("an integer", (view, top)), ("None", (view, None)),
                 ("a list as a fraction", (view, [top, bottom])), ("a string", (view, (str(top), bottom))),
-                ("three", (view, (top, bottom, 1))), ("no pair", 7), ("lists in the view", (lists, (top, bottom))),
-                ("a list as a view", (list(view), (top, bottom))), ("no view", ("", (top, bottom)))]
+                ("three", (view, (top, bottom, 1))), ("no pair", 7), ("a list as a view", (list(view), (top, bottom))),
+                ("no view", ("", (top, bottom)))]
+        if lists != view:
+            rows.append(("lists in the view", (lists, (top, bottom))))
         if bottom == 1:
             rows.append(("a flag", (view, (top, True))))
         if [type(item) for item in flags] != [type(item) for item in view]:

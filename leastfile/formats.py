@@ -12,12 +12,12 @@ class Format:
     """Letters, and a word of bits for each command."""
 
     def __init__(self, letters, words):
-        if not _are_letters(letters):
+        if not are_letters(letters):
             raise BadFormat("letters")
         if not _are_words(letters, words):
             raise BadFormat("words")
         self.letters = letters
-        self._words = {command: words[command] for command in _in_order(letters, words)}
+        self._words = {command: words[command] for command in in_order(letters, words)}
         self.window = max([distance_of(command) for command in self._words])
         self.longest = max([reach_of(command) for command in self._words])
 
@@ -46,7 +46,7 @@ class Format:
 
 def coded(letters, prices):
     """The format whose words have the lengths of prices and follow one another as numbers."""
-    if not _are_letters(letters):
+    if not are_letters(letters):
         raise BadFormat("letters")
     if not _are_prices(letters, prices):
         raise BadFormat("prices")
@@ -59,11 +59,21 @@ def room(coding):
     return fraction(whole - _parts_taken([coding.price(command) for command in coding.commands()]), whole)
 
 
-def _are_letters(thing):
+def are_letters(thing):
     """Tell whether something is a string of 1 to 4 different letters, ascending."""
     if not isinstance(thing, str) or not 1 <= len(thing) <= MOST_LETTERS:
         return False
     return thing == "".join([letter for letter in ALPHABET if letter in thing])
+
+
+def in_order(letters, commands):
+    """The list of some letters, the copies among some commands, a list or the keys of a dict, and "end", in order."""
+    return list(letters) + sorted([command for command in commands if isinstance(command, tuple)]) + [END]
+
+
+def fit(prices):
+    """Tell whether words with the lengths of a list of prices can be found: the sum of 2 ** -price is at most 1."""
+    return _parts_taken(prices) <= 1 << MOST_BITS
 
 
 def _are_words(letters, thing):
@@ -81,9 +91,7 @@ def _are_prices(letters, thing):
     if not _has_commands(letters, thing):
         return False
     prices = list(thing.values())
-    if not all([is_between(price, 1, MOST_BITS) for price in prices]):
-        return False
-    return _parts_taken(prices) <= 1 << MOST_BITS
+    return all([is_between(price, 1, MOST_BITS) for price in prices]) and fit(prices)
 
 
 def _has_commands(letters, thing):
@@ -102,11 +110,6 @@ def _none_begins_another(words):
     return not any([after.startswith(word) for word, after in zip(ordered, ordered[1:])])
 
 
-def _in_order(letters, table):
-    """The list of the commands that are the keys of a dict, in their order."""
-    return list(letters) + sorted([key for key in table if isinstance(key, tuple)]) + [END]
-
-
 def _parts_taken(prices):
     """The sum of 2 ** -price, in parts of which 2 ** 12 make 1."""
     return sum([(1 << MOST_BITS) >> price for price in prices])
@@ -117,7 +120,7 @@ def _words_for(letters, prices):
     words = {}
     number = 0
     bits = 0
-    commands = _in_order(letters, prices)
+    commands = in_order(letters, prices)
     for price, place in sorted([(prices[command], place) for place, command in enumerate(commands)]):
         number = number << (price - bits)
         words[commands[place]] = f"{number:b}".zfill(price)

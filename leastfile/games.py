@@ -4,9 +4,6 @@ from leastfile.basics import fraction
 from leastfile.chases import Chase
 from leastfile.rings import Measure
 
-# No ring has a quotient so high: a letter costs at most 12 bits, and in shortest files not less than 1/8 of a bit.
-HIGH = 97
-
 
 class Forced:
     """The net of the stands to which rules can come if the enemy has chosen his letters."""
@@ -62,9 +59,9 @@ class Game:
         return [(stand, letter, (-top, bottom)) for letter, (stand, (top, bottom)) in zip(self._forced.answers, rows)]
 
     def _enforce(self, answers):
-        """Find the least quotient that letters leave to the rules, and whether other letters leave only greater ones."""
+        """Find the least quotient that letters leave to the rules, and look for letters that leave greater ones."""
         self._forced = Forced(self._arena, answers)
-        self._measure = Measure(self._forced, (-HIGH, 1))
+        self._measure = Measure(self._forced)
         top, bottom = self._measure.quotient
         self.quotient = (-top, bottom)
         self._chase = Chase(self._arena, self.quotient)

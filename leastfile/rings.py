@@ -4,15 +4,17 @@ from leastfile.basics import fraction, is_fraction, is_of_form, is_pair
 from leastfile.climbs import Climb
 
 MOST_RING = 3000
+# Below all quotients, also where what is paid is told as numbers below 0: at most 12 bits are paid for a letter,
+# and at least 1/8 of a bit is gained for each letter of a ring.
+LOW = (-97, 1)
 
 
 class Measure:
     """The greatest quotient of a net, with a ring and a climb that show it."""
 
-    def __init__(self, net, low=(0, 1)):
-        """Find it; all rings have quotients above low."""
+    def __init__(self, net):
         self.net = net
-        self.quotient = low
+        self.quotient = LOW
         self._ring = []
         self._climb = Climb(net, self.quotient)
         while self._climb.rings:

@@ -33,15 +33,22 @@ INTERFACE = {
     "plans.py": ["best_plan", "check_plan", "packed_by", "enemy_plan", "check_enemy", "enemy_text"],
     "ruled.py": ["step_of_rules", "share_of_rules", "ring_of_rules", "table_of_rules", "check_ring_of_rules",
                  "check_table_of_rules", "unlike_packed"],
+    "pieces.py": ["least_pieces", "pieces", "step_of_pieces", "share_of_pieces", "ring_of_pieces", "table_of_pieces",
+                  "check_ring_of_pieces", "check_table_of_pieces", "best_cuts"],
+    "rates.py": ["dearest_at", "cheapest_at", "texts_with", "dearest_rate", "cheapest_rate", "ring_of_rate",
+                 "check_ring_of_rate"],
+    "bestcodes.py": ["best_prices", "total", "is_best"],
+    "narrowing.py": ["narrowed", "shortened", "by_window", "by_longest", "least_window", "least_longest"],
+    "rankings.py": ["rules_by_share", "least_sight", "lost_by"],
 }
 
-IMPORTS = {"math": {"gcd"}, "itertools": {"permutations"}, "heapq": {"heapify", "heappop", "heappush"}}
+IMPORTS = {"math": {"gcd", "lcm"}, "itertools": {"permutations"}, "heapq": {"heapify", "heappop", "heappush"}}
 BUILTINS = {
     "len", "range", "enumerate", "zip", "min", "max", "sum", "abs", "sorted", "reversed", "int", "str", "bool", "list",
     "tuple", "dict", "set", "isinstance", "any", "all", "divmod", "property", "ValueError",
 }
 # Imported functions, and parameters that are functions.
-CALLED = {"gcd", "permutations", "heapify", "heappop", "heappush", "moved", "deed", "answer", "change"}
+CALLED = {"gcd", "lcm", "permutations", "heapify", "heappop", "heappush", "moved", "deed", "answer", "change"}
 METHODS = {
     "append", "clear", "copy", "count", "endswith", "extend", "find", "get", "index", "insert", "isdigit", "items",
     "join", "keys", "partition", "pop", "remove", "removeprefix", "replace", "reverse", "setdefault", "split",

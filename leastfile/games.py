@@ -56,7 +56,8 @@ class Game:
     def enemy_plan(self):
         """A plan of the enemy: a list of triples (stand, letter, height)."""
         rows = self._measure.table()
-        return [(stand, letter, (-top, bottom)) for letter, (stand, (top, bottom)) in zip(self._forced.answers, rows)]
+        # What is paid was told as numbers below 0, and so were the heights.
+        return [(stand, letter, (-height[0], height[1])) for letter, (stand, height) in zip(self._forced.answers, rows)]
 
     def _enforce(self, answers):
         """Find the least quotient that letters leave to the rules, and look for letters that leave greater ones."""

@@ -117,9 +117,8 @@ def _best_ends(coding, text, most):
     for begin in reversed(range(len(text))):
         last = min(len(text), begin + most)
         costs = _costs_of_piece(steps, begin, last)
-        # Of equals the end of the text comes first: a tuple that ends is less than one that goes on.
-        found = [(costs[end - begin] + sums[end], end < len(text), end) for end in range(begin + 1, last + 1)]
-        total, _, ends[begin] = min(found)
+        # Of equals the first end is taken; a cut where none is needed is never one of them, for its "end" costs more.
+        total, ends[begin] = min([(costs[end - begin] + sums[end], end) for end in range(begin + 1, last + 1)])
         sums[begin] = total + coding.price(END)
     return (sums[0], ends)
 

@@ -17,10 +17,10 @@ def rules_by_share(coding, most):
     pairs = [(share(coding, rule), rule) for rule in _all_rules() if rule.sight(coding) <= most]
     # With one bottom for all shares, their tops are in the same order.
     whole = 1
-    for (_, bottom), _ in pairs:
+    for (top, bottom), rule in pairs:
         whole = lcm(whole, bottom)
-    order = sorted([(top * (whole // bottom), place) for place, ((top, bottom), _) in enumerate(pairs)])
-    return [pairs[place] for _, place in order]
+    tops = [top * (whole // bottom) for (top, bottom), rule in pairs]
+    return [pairs[place] for _, place in sorted([(top, place) for place, top in enumerate(tops)])]
 
 
 def least_sight(coding, r):

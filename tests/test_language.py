@@ -2,6 +2,8 @@
 
 import ast
 import builtins
+import importlib
+import inspect
 import os
 import unittest
 
@@ -41,6 +43,53 @@ INTERFACE = {
     "narrowing.py": ["narrowed", "shortened", "by_window", "by_longest", "least_window", "least_longest"],
     "rankings.py": ["rules_by_share", "least_sight", "lost_by"],
 }
+
+# The arguments of each function, class and method of the interface.
+ARGUMENTS = """
+errors: BadFormat(part) NoCommand() BadWay(at) NoBits() BadBits(at) TooFew(due) Left(at) NoUndo() BadText(place)
+errors: BadNumber(part) BadPlaces() BadRule(part) BadView() TooMany(most) OtherLetters() BadTexts() BadLine() NoLine()
+errors: NoName(name) BadSight() NoMove() BadFlag() BadCopies()
+formats: Format(letters,words) Format.price(command) Format.commands() coded(letters,prices) room(coding)
+files: spread(coding,way) written(coding,way) read(coding,bits) text_of(coding,bits)
+readers: Reader(coding) Reader.push(bit) Reader.text() Reader.way() Reader.is_whole() Reader.may() Reader.lack()
+readers: Reader.undo(many=1)
+copying: copies(coding,text,at)
+shortest: costs(coding,text) least(coding,text) shortest(coding,text) how_many(coding,text)
+shortest: shortest_at(coding,text,number) check_heights(coding,text,bits,thing)
+bounded: least_of(coding,text,most) least_through(coding,text,places) needs(coding,text,at)
+rules: Rule(kind,ahead=0) Rule.sight(coding) packed(coding,rule,text) taken(coding,rule,text,at) loss(coding,rule,text)
+views: first_view() step(coding,rule,view,letter) rest(coding,rule,view) views(coding,rule)
+shares: share(coding,rule) ring(coding,rule) check_ring(coding,rule,thing) table(coding,rule)
+shares: check_table(coding,rule,r,thing)
+losses: greatest_loss(coding,rule) worst_text(coding,rule) loss_at(coding,rule,length)
+pairs: step_of_two(one,other,view,letter) share_of(one,other) ring_of(one,other) table_of(one,other)
+pairs: check_ring_of(one,other,thing) check_table_of(one,other,r,thing)
+compared: unlike_text(one,other) dearest(one,other) dearest_text(one,other) needless(coding) needed_by(coding,copy)
+compared: without(coding,copy) trimmed(coding)
+growing: Growing(coding) Growing.add(letter) Growing.add_all(text) Growing.text() Growing.least() Growing.file()
+growing: Growing.back(many=1) Growing.trying() Growing.trial(deed) Growing.tried(text) kept(coding,text,more)
+archives: least_behind(coding,before,text) least_archive(coding,texts) archive(coding,texts) texts_of(coding,bits)
+archives: best_order(coding,texts)
+texts: format_text(coding) read_format(text) way_text(way) read_way(text)
+desk: Desk() Desk.tell(line) Desk.depth() Desk.coding(name)
+sights: ready(coding,sight,stand,letter) choices(coding,sight,stand) behind(coding,sight,stand,command)
+sights: stands(coding,sight) sight_share(coding,sight)
+plans: best_plan(coding,sight) check_plan(coding,sight,r,thing) packed_by(coding,sight,moves,text)
+plans: enemy_plan(coding,sight) check_enemy(coding,sight,r,thing) enemy_text(coding,sight,moves,length)
+ruled: step_of_rules(one,rule,other,second,view,letter) share_of_rules(one,rule,other,second)
+ruled: ring_of_rules(one,rule,other,second) table_of_rules(one,rule,other,second)
+ruled: check_ring_of_rules(one,rule,other,second,thing) check_table_of_rules(one,rule,other,second,r,thing)
+ruled: unlike_packed(one,rule,other,second)
+pieces: least_pieces(coding,text,m) pieces(coding,text,m) step_of_pieces(coding,m,view,letter)
+pieces: share_of_pieces(coding,m) ring_of_pieces(coding,m) table_of_pieces(coding,m)
+pieces: check_ring_of_pieces(coding,m,thing) check_table_of_pieces(coding,m,r,thing) best_cuts(coding,text,most)
+rates: dearest_at(coding,length) cheapest_at(coding,length) texts_with(coding,length,bits) dearest_rate(coding)
+rates: cheapest_rate(coding) ring_of_rate(coding,dear) check_ring_of_rate(coding,dear,thing)
+bestcodes: best_prices(letters,copies,texts,most) total(coding,texts) is_best(coding,texts,most)
+narrowing: narrowed(coding,window) shortened(coding,longest) by_window(coding) by_longest(coding)
+narrowing: least_window(coding,r) least_longest(coding,r)
+rankings: rules_by_share(coding,most) least_sight(coding,r) lost_by(coding,rule)
+"""
 
 IMPORTS = {"math": {"gcd", "lcm"}, "itertools": {"permutations"}, "heapq": {"heapify", "heappop", "heappush"}}
 BUILTINS = {
@@ -181,3 +230,34 @@ class TestInterface(unittest.TestCase):
                     defined += [node.name + "." + below.name for below in functions_of(node)]
             for each in listed:
                 self.assertIn(each, defined, name)
+
+    def test_arguments(self):
+        told = {}
+        for row in ARGUMENTS.strip().splitlines():
+            name, _, rest = row.partition(": ")
+            told.setdefault(name + ".py", []).extend(rest.split(" "))
+        for name, listed in INTERFACE.items():
+            plain = [each for each in listed if not each.endswith("__") and each != "PackError"]
+            self.assertEqual(sorted(plain), sorted([each.partition("(")[0] for each in told[name]]))
+            module = importlib.import_module("leastfile." + name[:-3])
+            for each in told[name]:
+                path, _, arguments = each.partition("(")
+                found = module
+                for part in path.split("."):
+                    found = getattr(found, part)
+                self.assertEqual(",".join(self.parameters_of(found)) + ")", arguments, each)
+
+    def parameters_of(self, found):
+        """The parameters of a function, a method or a class, as they are written, without self."""
+        if inspect.isclass(found):
+            if "__init__" not in vars(found):
+                return []
+            found = found.__init__
+        parameters = [str(each) for each in inspect.signature(found).parameters.values()]
+        return [each for each in parameters if each != "self"]
+
+    def test_each_error_derives_directly_from_the_first(self):
+        module = importlib.import_module("leastfile.errors")
+        self.assertEqual(module.PackError.__bases__, (ValueError,))
+        for name in INTERFACE["errors.py"][1:]:
+            self.assertEqual(getattr(module, name).__bases__, (module.PackError,))

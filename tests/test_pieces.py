@@ -265,7 +265,7 @@ class TestBestCuts(unittest.TestCase):
         cheap = [coded("ab", {"a": 3, "b": 3, "end": 1, (2, 1): 4}), coded("ab", {"a": 2, "b": 2, "end": 1})]
         for coding in [plain(), BARE, formats()[4]] + cheap:
             several = {}
-            for text in texts("ab", 6) + ["ababababab", "aabbaabba", "aaaaaaaaa", "abbabaab"]:
+            for text in texts("ab", 5) + ["ababababab", "aabbaabba", "aaaaaaaaa", "abbabaab"]:
                 for most in (1, 2, 3, 4, 7, 100):
                     found = best_cuts(coding, text, most)
                     self.assertEqual(picture(found), picture(self.tried(coding, text, most)))

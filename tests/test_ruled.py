@@ -177,7 +177,7 @@ class TestJudges(unittest.TestCase):
             case = cases()[number]
             r = share_of_rules(*case)
             found = 0
-            for begin in texts("ab", 5)[-32:]:
+            for begin in texts("ab", 5)[-32::3] + [ring_of_rules(*case)[0]]:
                 for again in texts("ab", 5):
                     shows = quotient_of(ROWS[number], FIRST, (begin, again)) == r
                     self.assertIs(check_ring_of_rules(*case, (begin, again)), shows)
